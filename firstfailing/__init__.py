@@ -1,0 +1,1 @@
+"""Firstfailing: what rows of shrinking steps find, for all tests at once."""

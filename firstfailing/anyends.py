@@ -1,0 +1,49 @@
+"""Where shrinking can end by tests of any kind, the way there, and a test for it."""
+
+from firstfailing.bookparts import need_thing
+from firstfailing.ending import need_ending
+from firstfailing.stepping import steps_of
+
+
+def possible_ends(book, x):
+    """The set of the things in which shrinking from x ends by some test by which x fails."""
+    need_thing(book, x, "x")
+    need_ending(book)
+    return tuple(sorted(list(ways_from(book, x))))
+
+
+def way_to(book, x, z):
+    """A row of steps from x to z, None if there is none."""
+    need_thing(book, x, "x")
+    need_thing(book, z, "z")
+    need_ending(book)
+    came_from = ways_from(book, x)
+    if z not in came_from:
+        return None
+    way = [z]
+    while way[-1] != x:
+        way.append(came_from[way[-1]])
+    return tuple(way[::-1])
+
+
+def test_for(book, x, z):
+    """A test by which x fails and shrinking from x ends in z, None if there is none."""
+    way = way_to(book, x, z)
+    if way is None:
+        return None
+    return ("only", tuple(sorted(list(way))))
+
+
+def ways_from(book, x):
+    """For each thing to which steps lead from x, and x, the thing before it on a shortest way."""
+    came_from = {x: x}
+    row = [x]
+    while row:
+        ahead = []
+        for thing in row:
+            for step in steps_of(book, thing):
+                if step not in came_from:
+                    came_from[step] = thing
+                    ahead.append(step)
+        row = ahead
+    return came_from
