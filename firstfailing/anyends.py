@@ -37,13 +37,14 @@ def test_for(book, x, z):
 def ways_from(book, x):
     """For each thing to which steps lead from x, and x, the thing before it on a shortest way."""
     came_from = {x: x}
-    row = [x]
-    while row:
-        ahead = []
-        for thing in row:
-            for step in steps_of(book, thing):
-                if step not in came_from:
-                    came_from[step] = thing
-                    ahead.append(step)
-        row = ahead
+    found = [x]
+    place = 0
+    # What is found first is gone on from first, so that each way is a shortest one.
+    while place < len(found):
+        thing = found[place]
+        for step in steps_of(book, thing):
+            if step not in came_from:
+                came_from[step] = thing
+                found.append(step)
+        place = place + 1
     return came_from

@@ -148,7 +148,13 @@ class Asker:
         )
 
     def __str__(self):
-        return " ".join([(thing or "-") + ("!" if it_fails else ".") for thing, it_fails in self._said])
+        return " ".join([try_word(thing, it_fails) for thing, it_fails in self._said])
+
+
+def try_word(thing, it_fails):
+    """How a try is written: its thing, - for the empty one, and a sign for whether it fails."""
+    name = thing or "-"
+    return f"{name}!" if it_fails else f"{name}."
 
 
 def need_way(book, things):
