@@ -1,10 +1,8 @@
 """Whether two books end alike from a thing by tests of any kind."""
 
 from firstfailing.anyends import ways_from
-from firstfailing.bookparts import need_thing
+from firstfailing.bookparts import need_other, need_thing
 from firstfailing.ending import need_ending
-from firstfailing.errors import NotUsable
-from firstfailing.kinds import is_book
 from firstfailing.stepping import steps_of
 
 
@@ -16,8 +14,7 @@ def parts_any(book, other, x):
 
 def case_paper(book, other, x):
     """The paper that the two books end alike from x by all tests, or a test by which they do not."""
-    if not is_book(other) or other[0] != book[0]:
-        raise NotUsable("other", -1)
+    need_other(book, other)
     need_thing(book, x, "x")
     need_ending(book)
     need_ending(other)

@@ -1,7 +1,7 @@
 """The letters of a book, and the things that are at most others by them."""
 
 from firstfailing.errors import NotUsable
-from firstfailing.kinds import is_number, is_thing, letters_reached
+from firstfailing.kinds import is_book, is_number, is_thing, letters_reached
 
 
 def letters_of(book):
@@ -74,6 +74,19 @@ def need_thing(book, thing, name):
     """Refuses what is no thing of the letters of the book, by the name of its parameter."""
     if not has_letters(book, thing):
         raise NotUsable(name, -1)
+
+
+def need_at_most(book, thing, x, name):
+    """Refuses what is no thing at most x, by the name of its parameter."""
+    need_thing(book, thing, name)
+    if not comes_from(downs_of(book), thing, x):
+        raise NotUsable(name, -1)
+
+
+def need_other(book, other):
+    """Refuses what is no book of which the letters, with their lessers, are equal to those of the book."""
+    if not is_book(other) or other[0] != book[0]:
+        raise NotUsable("other", -1)
 
 
 def need_rule(book, k, name):

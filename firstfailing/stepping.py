@@ -1,7 +1,7 @@
 """What the rules of a book make of a thing."""
 
 from firstfailing.bookparts import letters_below, need_rule, need_thing
-from firstfailing.errors import NotUsable
+from firstfailing.errors import NotFalling, NotUsable
 
 MANNERS = ("again", "on")
 
@@ -32,6 +32,13 @@ def need_manner(manner, name):
     """Refuses what is no manner, by the name of its parameter."""
     if manner not in MANNERS:
         raise NotUsable(name, -1)
+
+
+def need_falling(book):
+    """Refuses a book that is not falling, by its first rule that does not fall."""
+    for r, rule in enumerate(book[1]):
+        if not does_fall(book, rule):
+            raise NotFalling(r)
 
 
 def does_fall(book, rule):

@@ -4,6 +4,7 @@ The definitions follow the words of the document as directly as they can, and us
 but its errors.
 """
 
+import functools
 import itertools
 import unittest
 
@@ -155,6 +156,7 @@ def steps(book, x):
     return once([step for rule in book[1] for step in results(book, rule, x)], x)
 
 
+@functools.lru_cache(None)
 def steps_on(book, x, first):
     """The steps of x by the rules from one on and then those before, each with its rule."""
     order = [k for k in range(len(book[1])) if k >= first] + [k for k in range(len(book[1])) if k < first]
@@ -216,6 +218,60 @@ def last(book, test, x):
         thing = failing[0]
 
 
+def shrunk(book, x, answer, manner="again", notes=False, most=10 ** 6):
+    """The walk of shrinking from x, each try answered by a function; None if there are more than so many tries."""
+    rows, rule, said = [[x, 0]], 0, []
+    while True:
+        for step, k in steps_on(book, rows[-1][0], rule if manner == "on" else 0):
+            if notes and step in dict(said):
+                it_fails = dict(said)[step]
+            elif len(said) == most:
+                return None
+            else:
+                it_fails = answer(step)
+                said.append((step, it_fails))
+                rows[-1][1] += 1
+            if it_fails:
+                rows.append([step, 0])
+                rule = k
+                break
+        else:
+            return tuple(tuple(row) for row in rows)
+
+
+def walk(book, test, x, manner="again", notes=False, most=10 ** 6):
+    """The walk of shrinking from x by a test; None if there are more than so many tries."""
+    return shrunk(book, x, lambda thing: fails(book, test, thing), manner, notes, most)
+
+
+@functools.lru_cache(None)
+def ranking(book, x, manner="again", rule=0):
+    """The ranking of a thing to which the result of this rule led."""
+    rows = []
+    for step, k in steps_on(book, x, rule if manner == "on" else 0):
+        rows += ranking(book, step, manner, k)
+    return (*once(rows, x), x)
+
+
+def falls(book, rule):
+    """Whether each result of a rule is below what it is made of."""
+    return rule[0] != "put" or rule[2] == "" or rule[2] in below(book, rule[1])
+
+
+def is_falling_book(book):
+    """Whether all rules of the book fall."""
+    return all(falls(book, rule) for rule in book[1])
+
+
+def rising_tests(book, x):
+    """All rising tests by which x fails, each by the set of its least failing things; for few things."""
+    things = sorted(at_most(book, x))
+    for many in range(1, len(things) + 1):
+        for row in itertools.combinations(things, many):
+            if not any(u != v and u in at_most(book, v) for u in row for v in row):
+                yield ("causes", row)
+
+
 def only_tests(book, other, x):
     """The tests "only" with x and any of the other things to which steps of one of the books lead."""
     things = sorted((reached(book, x) | reached(other, x)) - {x})
@@ -261,6 +317,38 @@ def are_weights(book, weights):
         for letter in names(book)
         for word in gives(book, letter)
     )
+
+
+def entry_line(entry):
+    """The line of a letter, as [18] writes it."""
+    return " ".join(["letter", entry[0], ",".join(entry[1]) or "-"])
+
+
+def rule_row(rule):
+    """The line of a rule, as [18] writes it."""
+    return " ".join(["rule", *[str(part) if part != "" else "-" for part in rule]])
+
+
+def text_of(book):
+    """The lines of a book, as [18] writes it."""
+    return "\n".join([entry_line(entry) for entry in book[0]] + [rule_row(rule) for rule in book[1]])
+
+
+def event_row(event):
+    """The line of an event, as [73] writes it."""
+    word = event[0]
+    if word == "rule":
+        return f"rule {event[2]} {rule_row(event[1])[5:]}"
+    parts = [{True: "fails", False: "passes"}[part] if type(part) is bool else str(part) for part in event[1:]]
+    return " ".join([word, *[part if part != "" else "-" for part in parts]])
+
+
+def log_rows(log):
+    """The lines of a log, as [73] writes it."""
+    _, book, x, manner = log[0]
+    many = len(book[0]) + len(book[1])
+    rows = text_of(book).split("\n") if many > 0 else []
+    return [f"trial {manner} {x if x != '' else '-'} {many}", *rows, *[event_row(event) for event in log[1:]]]
 
 
 def small_books(letters, most=2):

@@ -6,7 +6,7 @@ import unittest
 from firstfailing.bookreadings import book_read, letter_read, rule_read
 from firstfailing.errors import InvalidText
 from firstfailing.kinds import is_letters, is_rules
-from tests.support import BOOKS, LETTERS, RULES, Case
+from tests.support import BOOKS, LETTERS, RULES, Case, entry_line, rule_row, text_of
 
 SIXTY = "9" * 60
 NO_TEXTS = (None, True, 0, 1, (), [], ("letter a -",), ["rule empty"], LETTERS)
@@ -17,21 +17,6 @@ WORDS = (
     "1.", "1_0", "1,2", SIXTY, "1" * 60, "1" * 61, "0" + SIXTY, "", "A", "Left", "Drop", "LEFT", "lefts", "a\n", "\na",
     "\n", "-\n", "left\n", "1\n", "rule\n", "drop\n", "letter\n", "a\nb", "x", "xyz",
 )
-
-
-def entry_line(entry):
-    """The line of a letter, as [18] writes it."""
-    return " ".join(["letter", entry[0], ",".join(entry[1]) or "-"])
-
-
-def rule_row(rule):
-    """The line of a rule, as [18] writes it."""
-    return " ".join(["rule", *[str(part) if part != "" else "-" for part in rule]])
-
-
-def text_of(book):
-    """The lines of a book, as [18] writes it."""
-    return "\n".join([entry_line(entry) for entry in book[0]] + [rule_row(rule) for rule in book[1]])
 
 
 # All entries and rules of which each word is one of WORDS, and some more entries.
