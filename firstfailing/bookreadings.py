@@ -28,15 +28,19 @@ def rule_read(text, *, line=0):
 def book_read(text):
     """The pair of letters and rules that lines write."""
     need_line(text, 0)
+    return book_of(text.split("\n") if text != "" else [], 0)
+
+
+def book_of(rows, line):
+    """The pair of letters and rules that rows write, of which the first one has this index."""
     letters = []
     rules = []
-    rows = text.split("\n") if text != "" else []
     for k, row in enumerate(rows):
         words = row.split(" ")
         if words[0] == "letter" and rules == []:
-            letters.append(entry_of(words, k, letters[-1][0] if letters else ""))
+            letters.append(entry_of(words, line + k, letters[-1][0] if letters else ""))
         else:
-            rules.append(rule_of(words, k))
+            rules.append(rule_of(words, line + k))
     return (tuple(letters), tuple(rules))
 
 
@@ -70,16 +74,21 @@ def rule_of(words, line):
     """The rule that words write."""
     if words[0] != "rule":
         raise InvalidText(line, 0)
-    if len(words) < 2 or words[1] not in PARTS:
-        raise InvalidText(line, 1)
-    parts = PARTS[words[1]]
-    end = 2 + len(parts)
-    for k in range(2, end):
-        if len(words) <= k or not can_stand(parts[k - 2], words[k], words[k - 1]):
+    return rule_from(words, 1, line)
+
+
+def rule_from(words, first, line):
+    """The rule that the words from the one with this index on write."""
+    if len(words) <= first or words[first] not in PARTS:
+        raise InvalidText(line, first)
+    parts = PARTS[words[first]]
+    end = first + 1 + len(parts)
+    for k in range(first + 1, end):
+        if len(words) <= k or not can_stand(parts[k - first - 1], words[k], words[k - 1]):
             raise InvalidText(line, k)
     if len(words) > end:
         raise InvalidText(line, end)
-    return (words[1],) + tuple([part_in(part, word) for part, word in zip(parts, words[2:])])
+    return (words[first],) + tuple([part_in(part, word) for part, word in zip(parts, words[first + 1:])])
 
 
 def can_stand(part, word, before):
@@ -90,14 +99,24 @@ def can_stand(part, word, before):
         return is_side(word)
     if part == "letter":
         return is_letter(word)
-    # Only the empty word is written as a hyphen, and a put rule does not put the letter itself.
-    return word == "-" or (is_thing(word) and word != "" and word != before)
+    # A put rule does not put the letter itself.
+    return is_written_thing(word) and word != before
 
 
 def part_in(part, word):
     """The part of a rule that a word writes."""
     if part == "number":
         return int(word)
+    return thing_in(word)
+
+
+def is_written_thing(word):
+    """Whether a word writes a thing: a hyphen, and no empty word, writes the empty one."""
+    return word == "-" or (is_thing(word) and word != "")
+
+
+def thing_in(word):
+    """The thing that a word writes."""
     return "" if word == "-" else word
 
 

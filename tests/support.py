@@ -112,6 +112,7 @@ def below(book, letter):
     return found
 
 
+@functools.lru_cache(None)
 def at_most(book, v):
     """All things at most v: each letter is left out, kept or replaced by one below it."""
     choices = [["", letter, *below(book, letter)] for letter in v]
@@ -218,9 +219,9 @@ def last(book, test, x):
         thing = failing[0]
 
 
-def shrunk(book, x, answer, manner="again", notes=False, most=10 ** 6):
+def shrunk(book, x, answer, manner="again", notes=False, most=10 ** 6, rule=0):
     """The walk of shrinking from x, each try answered by a function; None if there are more than so many tries."""
-    rows, rule, said = [[x, 0]], 0, []
+    rows, said = [[x, 0]], []
     while True:
         for step, k in steps_on(book, rows[-1][0], rule if manner == "on" else 0):
             if notes and step in dict(said):

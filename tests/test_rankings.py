@@ -96,7 +96,8 @@ class Rankings(Case):
                 self.unusable("x", place_in_ranking, book, value, value)
                 self.unusable("z", place_in_ranking, book, "bc", value)
                 self.unusable("z", place_in_ranking, book, "bc", value, manner=None)
-                self.unusable("x", first_failing, book, ("but", ()), value, manner=None)
+                for test in [("but", ()), ("causes", ("a",)), ("only", ()), ("has", ("b",))]:
+                    self.unusable("x", first_failing, book, test, value, manner=None)
             for z in ("cb", "bb", "bcb", "cc"):
                 self.unusable("z", place_in_ranking, book, "bc", z)
             for value in NO_MANNERS:
