@@ -3,8 +3,9 @@
 from firstfailing.bookchanges import with_rule, without_rule
 from firstfailing.bookchecker import lets_book
 from firstfailing.bookparts import comes_from, downs_of, has_letters, letters_of, need_thing
+from firstfailing.booktexts import thing_word
 from firstfailing.errors import InvalidEvent, NothingToUndo, NotUsable
-from firstfailing.eventtexts import event_line, fails_word, thing_word
+from firstfailing.eventtexts import event_line, fails_word
 from firstfailing.kinds import is_rule_of
 from firstfailing.rankings import ranking_from
 from firstfailing.stepping import does_fall, led_steps, need_falling, need_manner
