@@ -1,9 +1,8 @@
 """Whether two books end alike from a thing by tests of any kind."""
 
-from firstfailing.anyends import ways_from
+from firstfailing.anyends import steps_from
 from firstfailing.bookparts import need_other, need_thing
 from firstfailing.ending import need_ending
-from firstfailing.stepping import steps_of
 
 
 def parts_any(book, other, x):
@@ -35,11 +34,6 @@ def case_paper(book, other, x):
         else:
             return ("parts", ("only", tuple(sorted([thing for thing in known if known[thing]]))))
     return ("alike", tuple(nodes))
-
-
-def steps_from(book, x):
-    """The steps of x, and of each thing to which steps lead from it."""
-    return {thing: steps_of(book, thing) for thing in ways_from(book, x)}
 
 
 def walks_by(tables, x, known):

@@ -48,3 +48,8 @@ def ways_from(book, x):
                 found.append(step)
         place = place + 1
     return came_from
+
+
+def steps_from(book, x):
+    """The steps of x, and of each thing to which steps lead from it."""
+    return {thing: steps_of(book, thing) for thing in ways_from(book, x)}

@@ -5,7 +5,7 @@ from firstfailing.ending import need_ending
 from firstfailing.errors import NothingToUndo, NotUsable
 from firstfailing.failing import is_failing, need_test
 from firstfailing.kinds import is_number, is_thing
-from firstfailing.stepping import led_steps, need_manner, steps_of
+from firstfailing.stepping import led_steps, need_manner, need_notes, steps_of
 
 
 class Asker:
@@ -14,8 +14,7 @@ class Asker:
     def __init__(self, book, x, *, manner="again", notes=False):
         need_thing(book, x, "x")
         need_manner(manner, "manner")
-        if not isinstance(notes, bool):
-            raise NotUsable("notes", -1)
+        need_notes(notes, "notes")
         need_ending(book)
         self._book = book
         self._x = x

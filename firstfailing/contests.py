@@ -27,9 +27,29 @@ def order_by_contests(book, x, *, manner="again"):
     return ranking + tuple([thing for thing in things_at_most(book, x) if thing not in ranking])
 
 
-def first_of(downs, ranking, causes):
-    """The first thing of a ranking that is at least one of the causes."""
-    for thing in ranking:
-        if any([comes_from(downs, cause, thing) for cause in causes]):
-            return thing
+def first_of(downs, order, causes):
+    """The first thing of an order that is at least one of the causes; one of its things is at least all of them."""
+    return order[min([place_of(downs, order, cause) for cause in causes])]
+
+
+def place_of(downs, order, cause):
+    """The index of the first thing of an order that is at least the cause."""
+    place = 0
+    while not comes_from(downs, cause, order[place]):
+        place = place + 1
+    return place
+
+
+def parting_of(book, x, order, other):
+    """The least set of one or two causes at most x for which two orders have unlike first things, None if none is."""
+    downs = downs_of(book)
+    causes = things_at_most(book, x)
+    places = [(place_of(downs, order, cause), place_of(downs, other, cause)) for cause in causes]
+    for cause, (k, i) in zip(causes, places):
+        if order[k] != other[i]:
+            return (cause,)
+    for at, (k, i) in enumerate(places):
+        for end in range(at + 1, len(places)):
+            if order[min(k, places[end][0])] != other[min(i, places[end][1])]:
+                return (causes[at], causes[end])
     return None

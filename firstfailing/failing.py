@@ -24,6 +24,14 @@ def need_test(book, test):
         raise NotUsable("test", -1)
 
 
+def need_failing(book, test, x):
+    """Refuses what is no test of the letters of the book, and what is no thing of them that fails by it."""
+    need_test(book, test)
+    need_thing(book, x, "x")
+    if not is_failing(book, test, x):
+        raise NotUsable("x", -1)
+
+
 def is_failing(book, test, x):
     """Whether x fails by a test, where both are right for the book."""
     word, things = test

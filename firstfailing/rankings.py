@@ -1,8 +1,7 @@
 """The rankings of things: shrinking by a rising test ends in the first failing thing of one."""
 
 from firstfailing.bookparts import need_at_most, need_thing
-from firstfailing.errors import NotUsable
-from firstfailing.failing import is_failing, need_test
+from firstfailing.failing import is_failing, need_failing
 from firstfailing.stepping import led_steps, need_falling, need_manner
 
 
@@ -24,10 +23,7 @@ def place_in_ranking(book, x, z, *, manner="again"):
 
 def first_failing(book, test, x, *, manner="again"):
     """The first thing of the ranking of x that fails by the test."""
-    need_test(book, test)
-    need_thing(book, x, "x")
-    if not is_failing(book, test, x):
-        raise NotUsable("x", -1)
+    need_failing(book, test, x)
     ranking = ranking_of(book, x, manner=manner)
     return [thing for thing in ranking if is_failing(book, test, thing)][0]
 

@@ -34,6 +34,12 @@ def need_manner(manner, name):
         raise NotUsable(name, -1)
 
 
+def need_notes(notes, name):
+    """Refuses what is no bool, by the name of its parameter."""
+    if not isinstance(notes, bool):
+        raise NotUsable(name, -1)
+
+
 def need_falling(book):
     """Refuses a book that is not falling, by its first rule that does not fall."""
     for r, rule in enumerate(book[1]):

@@ -3,6 +3,7 @@
 import unittest
 
 from firstfailing.anyends import possible_ends, test_for, way_to
+from firstfailing.walking import last_of
 from tests.support import (
     BACK, BOOK, CHAIN, DIAMOND, DROPS, GROWING, HALVES, LETTERS, LOOSE, NO_LETTERS, NO_RULES, NO_THINGS, NOTHING,
     PUTS, RULES, SIX, WORDS_OF_TESTS, Case, fails, has_ring, last, names, only_tests, reached, small_books, steps,
@@ -46,7 +47,7 @@ class Ends(Case):
             [possible_ends(BOOK, "bc"), way_to(BOOK, "bc", "bc"), way_to(BOOK, "b", "c")],
             [("", "a", "ac", "b", "bc", "c"), ("bc",), None],
         )
-        self.same(last(BOOK, test_for(BOOK, "bc", "ac"), "bc"), "ac")
+        self.same(last_of(BOOK, test_for(BOOK, "bc", "ac"), "bc"), "ac")
 
     def test_books_and_their_short_things(self):
         for book in ENDING:
