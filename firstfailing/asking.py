@@ -83,10 +83,11 @@ class Asker:
         self._past.append((self._walk, self._ahead))
         self._said = self._said + ((step, it_fails),)
         self._walk = self._walk[:-1] + ((thing, tries + 1),)
-        self._ahead = self._ahead[1:]
+        ahead = self._ahead[1:]
         if it_fails:
             self._walk = self._walk + ((step, 0),)
-            self._ahead = self._asked_from(step, rule)
+            ahead = led_steps(self._book, step, rule if self._manner == "on" else 0)
+        self._ahead = self._asked_of(ahead)
         return self.question
 
     def undo(self):
@@ -99,15 +100,17 @@ class Asker:
 
     def copied(self):
         """An Asker that stands as this one."""
+        return self._led(Asker(self._book, self._x, manner=self._manner, notes=self._notes))
+
+    def _led(self, other):
+        """Another Asker, when it was answered as this one."""
         answers = [it_fails for _, it_fails in self._said]
-        other = Asker(self._book, self._x, manner=self._manner, notes=self._notes)
         for it_fails in answers:
             other.answer(it_fails)
         return other
 
-    def _asked_from(self, thing, rule):
-        """The steps that are asked from a thing to which the result of a rule led, with their rules."""
-        steps = led_steps(self._book, thing, rule if self._manner == "on" else 0)
+    def _asked_of(self, steps):
+        """Those of the steps, each with its rule, that are still asked."""
         # What was asked before and failed led here, and in an ending book nothing leads back to it.
         known = [pair[0] for pair in self._said] if self._notes else []
         return tuple([pair for pair in steps if pair[0] not in known])

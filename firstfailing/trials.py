@@ -192,6 +192,14 @@ class Trial:
         return str(" / ".join([event_line(event) for event in self._events]) or "-")
 
 
+def trial_after(log):
+    """The trial that a log leads to, with nothing counted."""
+    _, book, x, manner = log[0]
+    trial = Trial(book, x, manner=manner)
+    trial._take(log[1:], False)
+    return trial
+
+
 def state_of(book, x, manner):
     """How a trial stands at the beginning, when x was told to fail."""
     state = {"book": book, "manner": manner, "failing": (), "passing": (), "tries": 0}
