@@ -4,7 +4,7 @@ from firstfailing.bookparts import has_letters, letters_of, need_thing, things_a
 from firstfailing.contests import parting_of
 from firstfailing.ending import least_weights
 from firstfailing.errors import NotUsable
-from firstfailing.kinds import is_book, is_count, is_letter, is_things
+from firstfailing.kinds import is_book, is_count, is_things
 from firstfailing.rankings import ranking_of
 
 
@@ -55,7 +55,7 @@ class Wish:
         return min([self.key(thing) for thing in things])[1]
 
     def __getitem__(self, at):
-        if not is_letter(at) or at not in self._names:
+        if at not in self._names:
             raise NotUsable("letter", -1)
         return self._weight_of[at]
 

@@ -115,6 +115,19 @@ class Losses(Case):
             book = (letters, (("half", dice.choice(("left", "right"))),))
             self.check(book, any_maker(dice, ("a", "b"), 4), 9)
 
+    def test_halves_that_only_long_things_lose(self):
+        rows = (((("a", 1, 1),), 1), ((("a", 2, 1),), 1), ((("a", 3, 1),), 1), ((("a", 1, 1),), 0))
+        told = lost_step(((("a", ()),), (("half", "left"),)), Maker(("a",), rows))
+        self.same(told, ("a" * 7, "a" * 3))
+        rows = (
+            ((("a", 2, 1), ("b", 0, 1)), 1), ((("a", 3, 1), ("b", 3, 1)), 0), ((("a", 3, 1), ("b", 0, 1)), 0),
+            ((("a", 1, 1), ("b", 2, 1)), 0),
+        )
+        book = ((("a", ()), ("b", ())), (("half", "right"),))
+        told = lost_step(book, Maker(("a", "b"), rows))
+        self.same(told, slow_loss(book, Maker(("a", "b"), rows), 10))
+        self.same(len(told[0]), 10)
+
     def test_steps_that_only_long_things_lose(self):
         letters = (("a", ()), ("b", ()))
         for states, rule, wanted in [
