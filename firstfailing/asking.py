@@ -14,7 +14,7 @@ class Asker:
     def __init__(self, book, x, *, manner="again", notes=False):
         need_thing(book, x, "x")
         need_manner(manner, "manner")
-        need_notes(notes, "notes")
+        need_notes(notes)
         need_ending(book)
         self._book = book
         self._x = x

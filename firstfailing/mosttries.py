@@ -34,7 +34,7 @@ def most_tries_rising(book, x, *, manner="again", notes=False):
     """The most tries of shrinking from x in this way, over all rising tests by which x fails."""
     need_thing(book, x, "x")
     need_manner(manner, "manner")
-    need_notes(notes, "notes")
+    need_notes(notes)
     need_falling(book)
     # By a test by which shrinking ends in z it makes the tries that it makes by the cause z alone.
     return max([

@@ -34,10 +34,10 @@ def need_manner(manner, name):
         raise NotUsable(name, -1)
 
 
-def need_notes(notes, name):
-    """Refuses what is no bool, by the name of its parameter."""
+def need_notes(notes):
+    """Refuses what does not tell whether notes are made."""
     if not isinstance(notes, bool):
-        raise NotUsable(name, -1)
+        raise NotUsable("notes", -1)
 
 
 def need_falling(book):

@@ -83,8 +83,8 @@ def worst_causes(book, x, wish, *, manner="again"):
     if not isinstance(wish, Wish) or wish.letters != book[0]:
         raise NotUsable("wish", -1)
     ranking = ranking_of(book, x, manner=manner)
-    keys = sorted([wish.key(thing) for thing in things_at_most(book, x)])
-    return parting_of(book, x, ranking, [thing for _, thing in keys])
+    best_first = sorted([wish.key(thing) for thing in things_at_most(book, x)])
+    return parting_of(book, x, ranking, [thing for _, thing in best_first])
 
 
 def need_letters(letters):
